@@ -1,0 +1,25 @@
+"""The names, arguments and defaults of the interface: places, names, and stars."""
+
+import importlib
+import inspect
+
+from tests.samples import Case
+
+# For each module its functions, each with its arguments as the document has them.
+FUNCTIONS = {
+    "pictures": ("is_kind(thing)", "is_picture(thing)", "step_of(kind)"),
+    "rowbytes": ("row_bytes(kind, row)", "row_of(kind, many, bytes_of)"),
+    "filters": ("filtered(number, row, above, *, step=1)", "undone(number, row, above, *, step=1)"),
+}
+
+
+class Interface(Case):
+    def test_functions_and_their_arguments(self):
+        for module, functions in FUNCTIONS.items():
+            for wanted in functions:
+                with self.subTest(module=module, function=wanted):
+                    name = wanted.partition("(")[0]
+                    function = getattr(importlib.import_module(f"tornpictures.{module}"), name)
+                    parameters = list(inspect.signature(function).parameters.values())
+                    plain = [part.replace(annotation=inspect.Parameter.empty) for part in parameters]
+                    self.assertEqual(name + str(inspect.Signature(plain)), wanted)

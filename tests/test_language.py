@@ -1,0 +1,106 @@
+"""That the files of the package keep to the rules of the language that can be seen without running them."""
+
+import ast
+import builtins
+import pathlib
+import re
+
+from tests.samples import Case
+
+PACKAGE = pathlib.Path(__file__).resolve().parent.parent / "tornpictures"
+BUILTINS = set(
+    "len range enumerate zip min max sum abs sorted reversed int str bool bytes list tuple dict set frozenset isinstance "
+    "ord repr any all divmod Exception ValueError TypeError KeyError IndexError LookupError ZeroDivisionError "
+    "ArithmeticError OverflowError RuntimeError NotImplementedError AttributeError StopIteration NotImplemented super".split()
+)
+BARRED = (
+    r"\b(type|typing|typing_extensions|enum|Enum|IntEnum|StrEnum|Flag|IntFlag|Generic|Protocol|ABC|ABCMeta|namedtuple"
+    r"|NamedTuple|TypedDict|TYPE_CHECKING|abstractmethod)\b|dataclass|overload|contextmanager"
+)
+NEVER = (
+    ast.Global, ast.AsyncFunctionDef, ast.AsyncFor, ast.AsyncWith, ast.Await, ast.Div, ast.MatMult, ast.Import,
+    ast.GeneratorExp,
+)
+AT_MODULE_LEVEL = (ast.Expr, ast.ImportFrom, ast.FunctionDef, ast.ClassDef, ast.Assign)
+OWN_DOUBLE_UNDERSCORES = ("__init__", "__eq__", "__len__")
+
+
+def files():
+    return sorted(PACKAGE.rglob("*.py"))
+
+
+def nodes(path):
+    return list(ast.walk(ast.parse(path.read_text())))
+
+
+def each(sort):
+    """Every node of a sort in every file, with a text that tells where it is."""
+    return [
+        (node, f"{path.name}, line {getattr(node, 'lineno', 0)}")
+        for path in files() for node in nodes(path) if isinstance(node, sort)
+    ]
+
+
+class Rules(Case):
+    def test_the_folder_has_python_files_alone(self):
+        found = [path for path in PACKAGE.rglob("*") if "__pycache__" not in path.parts]
+        self.assertIn(PACKAGE / "__init__.py", found)
+        for path in found:
+            self.assertRegex(path.name, r"\A(__init__|[a-z][a-z0-9_]*)\.py\Z")
+
+    def test_signs_and_sizes(self):
+        for path in files():
+            text = path.read_text()
+            with self.subTest(path.name):
+                self.assertRegex(text, r"\A[ -~\n]*\Z")
+                self.assertLessEqual(len(text.splitlines()), 400)
+                self.assertLessEqual(max(map(len, text.splitlines())), 120)
+                self.assertIsNone(re.search(BARRED, text))
+        for node, where in each(ast.FunctionDef):
+            self.assertLessEqual(node.end_lineno - node.lineno + 1, 40, where)
+
+    def test_imports_are_of_the_package_by_full_names(self):
+        for node, where in each(ast.ImportFrom):
+            self.assertEqual(node.level, 0, where)
+            self.assertTrue(node.module.startswith("tornpictures."), where)
+            self.assertTrue((PACKAGE / (node.module.removeprefix("tornpictures.") + ".py")).exists(), where)
+            self.assertNotIn("*", [alias.name for alias in node.names], where)
+
+    def test_module_level(self):
+        for path in files():
+            for node in ast.parse(path.read_text()).body:
+                self.assertIsInstance(node, AT_MODULE_LEVEL, f"{path.name}, line {node.lineno}")
+
+    def test_what_is_never_used(self):
+        for path in files():
+            for node in nodes(path):
+                self.assertNotIsInstance(node, NEVER, path.name)
+        for node, where in each(ast.Constant):
+            self.assertNotIsInstance(node.value, (float, complex), where)
+            if isinstance(node.value, str):
+                self.assertNotIn("%", node.value, where)
+
+    def test_builtins(self):
+        for node, where in each(ast.Name):
+            if hasattr(builtins, node.id):
+                self.assertIn(node.id, BUILTINS, where)
+                self.assertIsInstance(node.ctx, ast.Load, where)
+        for node, where in each(ast.arg):
+            self.assertFalse(hasattr(builtins, node.arg), where)
+
+    def test_plain_names(self):
+        for node, where in each((ast.Name, ast.arg, ast.FunctionDef, ast.ClassDef, ast.Attribute)):
+            name = next(getattr(node, field) for field in ("id", "arg", "name", "attr") if hasattr(node, field))
+            if name not in OWN_DOUBLE_UNDERSCORES:
+                self.assertRegex(name, r"\A[A-Za-z][A-Za-z0-9_]*\Z", where)
+
+    def test_is_stands_beside_none_and_truths_alone(self):
+        for node, where in each(ast.Compare):
+            for sign, side in zip(node.ops, node.comparators):
+                if isinstance(sign, (ast.Is, ast.IsNot)):
+                    self.assertIsInstance(side, ast.Constant, where)
+
+    def test_no_power_of_what_is_not_written_out(self):
+        for node, where in each(ast.BinOp):
+            if isinstance(node.op, ast.Pow):
+                self.assertIsInstance(node.right, ast.Constant, where)

@@ -1,0 +1,1 @@
+"""Pictures as rows of bytes, packed, and read in pieces."""
