@@ -10,6 +10,16 @@ FUNCTIONS = {
     "pictures": ("is_kind(thing)", "is_picture(thing)", "step_of(kind)"),
     "rowbytes": ("row_bytes(kind, row)", "row_of(kind, many, bytes_of)"),
     "filters": ("filtered(number, row, above, *, step=1)", "undone(number, row, above, *, step=1)"),
+    "costs": (
+        "cost(row)", "costs(row, above, *, step=1)", "chosen(row, above, *, step=1)",
+        "is_chosen(row, above, thing, *, step=1)",
+    ),
+    "passes": (
+        "passes(levels)", "pass_of(levels, x, y)", "size_of(width, height, levels, number)", "parted(picture, levels)",
+        "together(kind, width, height, levels, rows)",
+    ),
+    "coarse": ("grid(levels, many)", "coarse(kind, width, height, levels, rows)"),
+    "lines": ("lines(width, height, levels)", "line_rows(picture, levels)"),
 }
 
 
