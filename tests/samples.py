@@ -51,6 +51,11 @@ def any_bytes(many, chance):
     return [chance.randrange(256) for at in range(many)]
 
 
+def byte_by_byte(bytes_of):
+    """A saying of the bytes without a stretch."""
+    return [("byte", byte) for byte in bytes_of]
+
+
 def any_picture(kind, width, height, seed=0):
     chance = random.Random(f"{kind} {width} {height} {seed}")
     return (kind, width, height, tuple(any_row(kind, width, chance) for row in range(height)))

@@ -20,6 +20,17 @@ FUNCTIONS = {
     ),
     "coarse": ("grid(levels, many)", "coarse(kind, width, height, levels, rows)"),
     "lines": ("lines(width, height, levels)", "line_rows(picture, levels)"),
+    "sections": (
+        "section_bytes(picture, *, levels=0, first=0, many=None)",
+        "section_lines(kind, width, height, bytes_of, *, levels=0, first=0, many=None)",
+    ),
+    "stretches": ("said(bytes_of)", "unsaid(saying)"),
+    "cheapest": (
+        "price(saying, *, single=9, again=20)", "cheapest(bytes_of, *, single=9, again=20)",
+        "table(bytes_of, *, single=9, again=20)", "lets_table(bytes_of, thing, *, single=9, again=20)",
+    ),
+    "counts": ("lengths(counts)", "joinings(counts)", "lets_joinings(counts, thing)"),
+    "bits": ("bits_of(number, many)", "number_of(text)", "bytes_from(text)", "bits_from(bytes_of)"),
 }
 
 
