@@ -30,7 +30,14 @@ FUNCTIONS = {
         "table(bytes_of, *, single=9, again=20)", "lets_table(bytes_of, thing, *, single=9, again=20)",
     ),
     "counts": ("lengths(counts)", "joinings(counts)", "lets_joinings(counts, thing)"),
+    "codes": (
+        "is_full(thing)", "codes(lengths_of)", "coded(signs, lengths_of)", "decoded(text, lengths_of, *, many=1, at=0)",
+    ),
     "bits": ("bits_of(number, many)", "number_of(text)", "bytes_from(text)", "bits_from(bytes_of)"),
+    "blocks": ("plain(bytes_of)", "packed(bytes_of)", "block(bytes_of)", "unpacked(thing)"),
+    "chunks": (
+        "check(bytes_of)", "is_chunk_name(thing)", "is_small(name)", "chunk(name, body)", "chunk_at(bytes_of, at)",
+    ),
 }
 
 
