@@ -104,3 +104,39 @@ class Rules(Case):
         for node, where in each(ast.BinOp):
             if isinstance(node.op, ast.Pow):
                 self.assertIsInstance(node.right, ast.Constant, where)
+
+    def test_no_local_name_is_that_of_an_import_or_a_class(self):
+        for path in files():
+            tree = ast.parse(path.read_text())
+            taken = {node.name for node in tree.body if isinstance(node, ast.ClassDef)}
+            taken |= {alias.name for node in tree.body if isinstance(node, ast.ImportFrom) for alias in node.names}
+            for node in ast.walk(tree):
+                if isinstance(node, ast.arg):
+                    self.assertNotIn(node.arg, taken, path.name)
+                if isinstance(node, ast.Name) and isinstance(node.ctx, ast.Store):
+                    self.assertNotIn(node.id, taken, path.name)
+
+    def test_an_import_names_the_file_that_defines_the_name(self):
+        for node, where in each(ast.ImportFrom):
+            body = ast.parse((PACKAGE / (node.module.removeprefix("tornpictures.") + ".py")).read_text()).body
+            defined = {part.name for part in body if isinstance(part, (ast.FunctionDef, ast.ClassDef))}
+            defined |= {target.id for part in body if isinstance(part, ast.Assign) for target in part.targets}
+            for alias in node.names:
+                self.assertIn(alias.name, defined, where)
+
+    def test_no_files_import_each_other(self):
+        needed = {
+            path.stem: {node.module.removeprefix("tornpictures.") for node in nodes(path) if isinstance(node, ast.ImportFrom)}
+            for path in files()
+        }
+        while needed:
+            free = [stem for stem in needed if not needed[stem] & set(needed)]
+            self.assertNotEqual(free, [], f"these import each other: {sorted(needed)}")
+            for stem in free:
+                del needed[stem]
+
+    def test_errors_are_raised_by_their_names_on_the_spot(self):
+        for node, where in each(ast.Raise):
+            if node.exc is not None:
+                self.assertIsInstance(node.exc, ast.Call, where)
+                self.assertIsInstance(node.exc.func, ast.Name, where)
