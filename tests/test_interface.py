@@ -38,7 +38,27 @@ FUNCTIONS = {
     "chunks": (
         "check(bytes_of)", "is_chunk_name(thing)", "is_small(name)", "chunk(name, body)", "chunk_at(bytes_of, at)",
     ),
+    "files": (
+        "written(picture, *, levels=0, each=8, notes=())", "read(thing)", "levels_of(thing)",
+        "bound(picture, *, levels=0, each=8, notes=())",
+    ),
+    "accounts": ("account(thing)", "lets_account(thing, account_of)"),
 }
+# For each class how it is made, and its methods, each defined in the class itself.
+CLASSES = {
+    ("reader", "Reader"): (
+        "__init__(self, *, strict=True)", "feed(self, piece, *, seen=None)", "end(self)", "state(self)", "fed(self)",
+        "place(self)", "passed(self)", "lost(self)", "shape(self)", "picture(self)", "whole(self)", "coarse(self)",
+        "__len__(self)",
+    ),
+}
+
+
+def written_out(name, function):
+    """The function's name with its arguments, as the document has them."""
+    parameters = list(inspect.signature(function).parameters.values())
+    plain = [part.replace(annotation=inspect.Parameter.empty) for part in parameters]
+    return name + str(inspect.Signature(plain))
 
 
 class Interface(Case):
@@ -48,6 +68,13 @@ class Interface(Case):
                 with self.subTest(module=module, function=wanted):
                     name = wanted.partition("(")[0]
                     function = getattr(importlib.import_module(f"tornpictures.{module}"), name)
-                    parameters = list(inspect.signature(function).parameters.values())
-                    plain = [part.replace(annotation=inspect.Parameter.empty) for part in parameters]
-                    self.assertEqual(name + str(inspect.Signature(plain)), wanted)
+                    self.assertEqual(written_out(name, function), wanted)
+
+    def test_classes_and_their_methods(self):
+        for (module, name), methods in CLASSES.items():
+            made = getattr(importlib.import_module(f"tornpictures.{module}"), name)
+            self.assertEqual(made.__name__, name)
+            for wanted in methods:
+                with self.subTest(name=name, method=wanted):
+                    method = wanted.partition("(")[0]
+                    self.assertEqual(written_out(method, vars(made)[method]), wanted)

@@ -23,6 +23,21 @@ NEVER = (
 )
 AT_MODULE_LEVEL = (ast.Expr, ast.ImportFrom, ast.FunctionDef, ast.ClassDef, ast.Assign)
 OWN_DOUBLE_UNDERSCORES = ("__init__", "__eq__", "__len__")
+# L17, and of L26 what no attribute may be called.
+NO_NAMES = set(
+    "register mro elements open input version_info with_traceback add_note attrgetter breakpoint builtins compile copyright "
+    "credits delattr dir eval exec exit gc getattr globals hasattr help id importlib license locals methodcaller os quit "
+    "setattr type vars sys __name__".split()
+)
+NO_ATTRIBUTES = set(
+    "items keys values pop update append clear extend insert remove reverse setdefault sort args encode decode hex fromhex "
+    "format format_map".split()
+)
+BUILTIN_METHODS = set(
+    "append clear copy count endswith extend find get index insert isalnum isalpha isdigit islower isspace isupper items join "
+    "keys ljust lower lstrip partition pop remove replace reverse rfind rjust rpartition rsplit rstrip setdefault split "
+    "splitlines startswith strip update upper values zfill bit_length".split()
+)
 
 
 def files():
@@ -140,3 +155,52 @@ class Rules(Case):
             if node.exc is not None:
                 self.assertIsInstance(node.exc, ast.Call, where)
                 self.assertIsInstance(node.exc.func, ast.Name, where)
+
+    def test_names_that_are_not_used(self):
+        for node, where in each((ast.Name, ast.arg, ast.FunctionDef, ast.ClassDef)):
+            name = next(getattr(node, field) for field in ("id", "arg", "name") if hasattr(node, field))
+            self.assertNotIn(name, NO_NAMES, where)
+
+    def test_no_name_is_a_method_here_and_an_attribute_there(self):
+        methods = {part.name for node, where in each(ast.ClassDef) for part in node.body if isinstance(part, ast.FunctionDef)}
+        stored = {node.attr for node, where in each(ast.Attribute) if isinstance(node.ctx, ast.Store)}
+        self.assertEqual(methods & stored, set())
+        self.assertEqual(stored & NO_ATTRIBUTES, set())
+        for node, where in each(ast.Attribute):
+            self.assertIn(node.attr, methods | stored | BUILTIN_METHODS, where)
+
+    def test_attributes_are_assigned_through_a_local_name(self):
+        for node, where in each(ast.Attribute):
+            if isinstance(node.ctx, ast.Store):
+                self.assertIsInstance(node.value, ast.Name, where)
+                self.assertRegex(node.value.id, r"\A[a-z]", where)
+
+    def test_no_bytes_are_made(self):
+        # Where a package makes bytes, what stands ahead of a rest must be seen to be a number (L7).
+        for node, where in each((ast.Name, ast.Constant)):
+            self.assertNotEqual(getattr(node, "id", None), "bytes", where)
+            self.assertNotIsInstance(getattr(node, "value", None), bytes, where)
+
+    def test_handlers_name_own_errors_alone(self):
+        # Of Python's own errors none is caught, so that none of the narrow rules for this is touched.
+        errors = {part.name for part in ast.parse((PACKAGE / "errors.py").read_text()).body if isinstance(part, ast.ClassDef)}
+        for node, where in each(ast.ExceptHandler):
+            caught = node.type.elts if isinstance(node.type, ast.Tuple) else [node.type]
+            for part in caught:
+                self.assertIn(part.id, errors, where)
+
+    def test_values_at_module_level_are_plain_and_not_nested(self):
+        for path in files():
+            for node in ast.parse(path.read_text()).body:
+                if isinstance(node, ast.Assign):
+                    where = f"{path.name}, line {node.lineno}"
+                    self.assertEqual(len(node.targets), 1, where)
+                    inner = [part for part in ast.walk(node.value) if isinstance(part, (ast.List, ast.Dict))]
+                    self.assertLessEqual(len(inner), 1, where)
+                    self.assertFalse([part for part in ast.walk(node.value) if isinstance(part, ast.Call)], where)
+
+    def test_a_length_is_told_by_len(self):
+        for node, where in each(ast.FunctionDef):
+            if node.name == "__len__":
+                self.assertEqual(len(node.body), 1, where)
+                self.assertEqual(node.body[0].value.func.id, "len", where)

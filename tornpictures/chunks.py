@@ -61,16 +61,29 @@ def chunk(name, body):
     return two_bytes(len(body)) + checked + check(checked)
 
 
+def end_at(bytes_of, at):
+    """The place behind the chunk from a place on, None where it isn't whole, or Broken for a length above 3,000."""
+    if at + 2 > len(bytes_of):
+        return None
+    length = from_two(bytes_of, at)
+    if length > LONGEST_BODY:
+        raise Broken(at)
+    end = at + AROUND_BODY + length
+    return end if end <= len(bytes_of) else None
+
+
+def parts_of(bytes_of, at, end):
+    """The name and the body of a whole chunk, and whether its check is right."""
+    checked = bytes_of[at + 2:end - 4]
+    return (name_from(checked[:4]), checked[4:], check(checked) == bytes_of[end - 4:end])
+
+
 def chunk_at(bytes_of, at):
     """The name and the body of the chunk from a place on, and the place behind it, or Broken."""
-    if at + AROUND_BODY > len(bytes_of):
+    end = end_at(bytes_of, at)
+    if end is None:
         raise Broken(at)
-    length = from_two(bytes_of, at)
-    end = at + AROUND_BODY + length
-    if length > LONGEST_BODY or end > len(bytes_of):
+    name, body, right = parts_of(bytes_of, at, end)
+    if not right or not is_chunk_name(name):
         raise Broken(at)
-    checked = bytes_of[at + 2:end - 4]
-    name = name_from(checked[:4])
-    if check(checked) != bytes_of[end - 4:end] or not is_chunk_name(name):
-        raise Broken(at)
-    return (name, checked[4:], end)
+    return (name, body, end)
