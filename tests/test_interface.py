@@ -43,6 +43,9 @@ FUNCTIONS = {
         "bound(picture, *, levels=0, each=8, notes=())",
     ),
     "accounts": ("account(thing)", "lets_account(thing, account_of)"),
+    "oneform": ("one_form(file)",),
+    "bytetexts": ("show_bytes(bytes_of)", "read_bytes(text)"),
+    "picturetexts": ("show_picture(picture)", "read_picture(text)"),
 }
 # For each class how it is made, and its methods, each defined in the class itself.
 CLASSES = {
@@ -51,6 +54,11 @@ CLASSES = {
         "place(self)", "passed(self)", "lost(self)", "shape(self)", "picture(self)", "whole(self)", "coarse(self)",
         "__len__(self)",
     ),
+    ("sheaf", "Sheaf"): (
+        "__init__(self, file)", "put(self, at, name, body)", "take(self, at)", "call(self, at, name)", "part(self, at, many)",
+        "unite(self, at)", "back(self)", "names(self)", "body(self, at)", "file(self)", "__len__(self)", "__eq__(self, other)",
+    ),
+    ("desk", "Desk"): ("__init__(self)", "say(self, line)"),
 }
 
 

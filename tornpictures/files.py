@@ -2,7 +2,7 @@
 
 from tornpictures.blocks import block, plain
 from tornpictures.bodies import head_body, lines_body, pale_body
-from tornpictures.chunks import AROUND_BODY, chunk
+from tornpictures.chunks import AROUND_BODY, chunk, chunk_at
 from tornpictures.lines import lines
 from tornpictures.reader import MARK, read_whole
 
@@ -12,6 +12,21 @@ def file_of(parts):
     told = list(MARK)
     for name, body in parts:
         told.extend(chunk(name, body))
+    return told
+
+
+def length_of_file(parts):
+    """How many bytes the file of these chunks has."""
+    return len(MARK) + sum([AROUND_BODY + len(body) for name, body in parts])
+
+
+def parts_in(file):
+    """The chunks of a file that is read, as tuples (name, body)."""
+    told = []
+    place = len(MARK)
+    while place < len(file):
+        name, body, place = chunk_at(file, place)
+        told.append((name, body))
     return told
 
 
@@ -41,8 +56,7 @@ def written(picture, *, levels=0, each=8, notes=()):
 
 def bound(picture, *, levels=0, each=8, notes=()):
     """How long the file is at most: as long as with plain blocks alone."""
-    parts = parts_by(picture, levels, each, notes, plain)
-    return len(MARK) + sum([AROUND_BODY + len(body) for name, body in parts])
+    return length_of_file(parts_by(picture, levels, each, notes, plain))
 
 
 def read(thing):
