@@ -191,7 +191,7 @@ class Lets(AccountCase):
         file = written(GREY)
         right = account(file)
         for other in (tuple(right), {number: entry for number, entry in enumerate(right)}, [right], (right,), str(right), None,
-                      True, [list(entry) for entry in right], [right[0]] * len(right), right[::-1], right + right, []):
+                      [()], [(), ()], [("mark",)], True, [list(entry) for entry in right], [right[0]] * len(right), right[::-1], right + right, []):
             before = exactly(other)
             self.assertIs(lets_account(file, other), False)
             self.assertEqual(exactly(other), before)

@@ -293,6 +293,9 @@ class Bound(Case):
         self.same(bound(picture, notes=[]), bound(picture))
         self.assertNotEqual(bound(picture, levels=1), bound(picture))
         self.assertNotEqual(bound(picture, each=6), bound(picture))
+        # By eight lines, and no others, these are two Bodies and three.
+        self.same(bound(any_picture(("grey", 2), 8, 16)), 4 + 16 + 2 * 14 + 48 + 10)
+        self.same(bound(any_picture(("grey", 2), 8, 17)), 4 + 16 + 3 * 14 + 51 + 10)
 
     def test_blocks_count_as_plain(self):
         for kind, levels, each in itertools.product(few_kinds(), range(4), (1, 7, 40)):
